@@ -1,20 +1,25 @@
 package syntax
 
-import "trawl/api"
+import (
+	"unicode"
+
+	"trawl/api"
+)
 
 const (
 	notPlain  = `\.^$|?*+()[{`
 	notOne    = `\[]^-`
 	itself    = `.^$|?*+()[]{}-/\` // what stands for itself behind a `\`
 	control   = "ntr"
-	anySet    = "dDwWsS"
-	classSet  = "dws"
+	someSet   = "dws"
+	otherSet  = "DWS"
+	textEdge  = "^$"
 	wordEdge  = "bB"
 	digits    = "0123456789"
 	nameRunes = "abcdefghijklmnopqrstuvwxyz"
 )
 
-func (r *reader) whole() node {
+func (r *reader) whole() Node {
 	n := r.alt()
 	if r.see() != end {
 		r.refuse()
@@ -22,52 +27,90 @@ func (r *reader) whole() node {
 	return n
 }
 
-func (r *reader) alt() node {
-	parts := []node{r.seq()}
+func (r *reader) alt() Node {
+	parts := []Node{r.seq()}
 	for r.take("|") {
 		parts = append(parts, r.seq())
 	}
-	return node{kind: choice, parts: parts}
+	return Node{Kind: Choice, Parts: parts}
 }
 
-func (r *reader) seq() node {
-	var parts []node
+func (r *reader) seq() Node {
+	var parts []Node
 	for r.see() != end && !r.sees("|)") {
 		parts = append(parts, r.repeated(r.atom()))
 	}
-	return node{kind: sequence, parts: parts}
+	return Node{Kind: Sequence, Parts: parts}
 }
 
-func (r *reader) atom() node {
+func (r *reader) atom() Node {
+	c := r.see()
 	switch {
 	case r.take("("):
 		return r.bracket()
 	case r.take("["):
-		r.class()
+		return r.class()
 	case r.take(`\`):
-		r.need(itself + control + anySet + wordEdge)
-	case r.take(".^$"):
-	default:
-		r.needOther(notPlain)
+		return r.escape()
+	case r.take("."):
+		return r.anyOf([]span{{'\n', '\n'}}, true)
+	case r.take(textEdge):
+		return Node{Kind: Border, Edge: edgeOf(c)}
 	}
-	return node{kind: single}
+	c = r.needOther(notPlain)
+	return r.anyOf([]span{{c, c}}, false)
+}
+
+// escape reads what is behind a `\` that stands in no class.
+func (r *reader) escape() Node {
+	c := r.see()
+	switch {
+	case r.take(wordEdge):
+		return Node{Kind: Border, Edge: edgeOf(c)}
+	case r.take(someSet):
+		return r.anyOf(setOf(c), false)
+	case r.take(otherSet):
+		return r.anyOf(setOf(unicode.ToLower(c)), true)
+	}
+	c = r.escaped()
+	return r.anyOf([]span{{c, c}}, false)
+}
+
+// anyOf is an atom of the runes in some spans, or of all others. What letters stand for comes ahead of what is left out: within `(?i:..)` the class `[^b]` has neither of b's kinds.
+func (r *reader) anyOf(spans []span, others bool) Node {
+	if r.fold {
+		spans = bothKinds(spans)
+	}
+	set := newSet(spans)
+	if others {
+		set = set.others()
+	}
+	return Node{Kind: Runes, Set: set}
 }
 
 // bracket reads what is behind a `(`.
-func (r *reader) bracket() node {
+func (r *reader) bracket() Node {
+	n := Node{Kind: Bracket}
+	outside := r.fold
 	switch {
 	case !r.take("?"):
-		r.groups++
+		n.Group = r.newGroup()
 	case r.take("<"):
-		r.groups++
+		n.Group = r.newGroup()
 		r.name()
 	default:
-		r.take("i")
+		r.fold = r.take("i") || outside
 		r.need(":")
 	}
-	inside := r.alt()
+	n.Parts = []Node{r.alt()}
 	r.need(")")
-	return node{kind: bracketed, parts: []node{inside}}
+	r.fold = outside
+	return n
+}
+
+func (r *reader) newGroup() int {
+	r.groups++
+	return r.groups
 }
 
 // name reads the NAME of the newest group, and the `>` behind it.
@@ -87,24 +130,24 @@ func (r *reader) name() {
 }
 
 // repeated reads the times of an atom, if it has one.
-func (r *reader) repeated(atom node) node {
-	n := node{kind: repetition, parts: []node{atom}}
+func (r *reader) repeated(atom Node) Node {
+	n := Node{Kind: Repetition, Parts: []Node{atom}}
 	switch place := r.place(); {
 	case r.take("*"):
-		n.low, n.high = 0, endless
+		n.Low, n.High = 0, Endless
 	case r.take("+"):
-		n.low, n.high = 1, endless
+		n.Low, n.High = 1, Endless
 	case r.take("?"):
-		n.low, n.high = 0, 1
+		n.Low, n.High = 0, 1
 	case r.take("{"):
-		n.low, n.high = r.bounds()
-		if n.low > api.MaxRepeat || n.high > api.MaxRepeat || n.high != endless && n.high < n.low {
+		n.Low, n.High = r.bounds()
+		if n.Low > api.MaxRepeat || n.High > api.MaxRepeat || n.High != Endless && n.High < n.Low {
 			r.note(api.ErrRepeat, place)
 		}
 	default:
 		return atom
 	}
-	r.take("?")
+	n.Lazy = r.take("?")
 	return n
 }
 
@@ -113,7 +156,7 @@ func (r *reader) bounds() (low, high int) {
 	low = r.number()
 	high = low
 	if r.take(",") {
-		high = endless
+		high = Endless
 		if !r.sees("}") {
 			high = r.number()
 		}
@@ -141,34 +184,44 @@ func (r *reader) digit() int {
 }
 
 // class reads what is behind a `[`.
-func (r *reader) class() {
-	r.take("^")
-	r.item()
+func (r *reader) class() Node {
+	others := r.take("^")
+	spans := r.item()
 	for r.see() != end && !r.sees("]") {
-		r.item()
+		spans = append(spans, r.item()...)
 	}
 	r.need("]")
+	return r.anyOf(spans, others)
 }
 
-func (r *reader) item() {
+func (r *reader) item() []span {
 	place := r.place()
 	escaped := r.take(`\`)
-	if escaped && r.take(classSet) {
-		return
+	if c := r.see(); escaped && r.take(someSet) {
+		return setOf(c)
 	}
 	from := r.one(escaped)
-	if r.take("-") && r.one(r.take(`\`)) < from {
+	if !r.take("-") {
+		return []span{{from, from}}
+	}
+	to := r.one(r.take(`\`))
+	if to < from {
 		r.note(api.ErrClass, place)
 	}
+	return []span{{from, to}}
 }
 
 // one reads a ONE, or the rest of it if its `\` was taken already, and tells its rune.
 func (r *reader) one(escaped bool) rune {
-	c := r.see()
-	if !escaped {
-		r.needOther(notOne)
-		return c
+	if escaped {
+		return r.escaped()
 	}
+	return r.needOther(notOne)
+}
+
+// escaped reads what is behind the `\` of a rune, and tells the rune.
+func (r *reader) escaped() rune {
+	c := r.see()
 	r.need(itself + control)
 	switch c {
 	case 'n':

@@ -2,47 +2,53 @@ package syntax
 
 import "trawl/api"
 
-type kind int
+// Kind tells what a piece of a pattern is.
+type Kind int
 
 const (
-	single     kind = iota // an atom with nothing in it: a rune, an escape, a class ..
-	bracketed              // the one part, in a bracket
-	sequence               // parts, one behind the other
-	choice                 // parts, one or another
-	repetition             // the one part, low to high times
+	Runes      Kind = iota // one rune of Set
+	Border                 // no rune, but a place that is such an Edge
+	Bracket                // the one part, as the group Group if that is not 0
+	Sequence               // parts, one behind the other
+	Choice                 // parts, one or another
+	Repetition             // the one part, Low to High times, as few as can be if Lazy
 )
 
-// endless is the high of a repetition without an upper number.
-const endless = -1
+// Endless is the High of a repetition without an upper number.
+const Endless = -1
 
-// node is a piece of a pattern.
-type node struct {
-	kind      kind
-	parts     []node
-	low, high int
+// Node is a piece of a pattern.
+type Node struct {
+	Kind      Kind
+	Parts     []Node
+	Set       Set
+	Edge      Edge
+	Group     int
+	Low, High int
+	Lazy      bool
 }
 
 // size tells the size of a piece, or, if that is above MaxSize, a number above MaxSize: the sizes of nested repetitions outgrow any integer.
-func (n node) size() int {
+func (n Node) size() int {
 	sum := 0
-	for _, part := range n.parts {
+	for _, part := range n.Parts {
 		sum += part.size()
 	}
-	switch n.kind {
-	case single, bracketed:
+	switch n.Kind {
+	case Runes, Border, Bracket:
 		sum++
-	case choice:
-		sum += len(n.parts) - 1
-	case repetition:
+	case Choice:
+		sum += len(n.Parts) - 1
+	case Repetition:
 		sum = n.copies() * (sum + 1)
 	}
 	return min(sum, api.MaxSize+1)
 }
 
 // copies tells how often a repetition counts its part: `*`, `+` and `?` count as {0,}, {1,} and {0,1} do.
-func (n node) copies() int {
-	if n.high == endless {
-		return n.low + 1
+func (n Node) copies() int {
+	if n.High == Endless {
+		return n.Low + 1
 	}
-	return n.high
+	return n.High
 }

@@ -16,6 +16,7 @@ type reader struct {
 	places []int // of each rune, and of the pattern's end
 	next   int   // which rune is seen
 	faults map[api.Errno]int
+	fold   bool // whether letters stand for both of their kinds here
 	groups int
 	names  map[string]int
 }
@@ -79,11 +80,13 @@ func (r *reader) need(these string) {
 	}
 }
 
-// needOther steps over the rune that is seen, which may be any but these.
-func (r *reader) needOther(these string) {
-	if r.see() == end || r.sees(these) {
+// needOther steps over the rune that is seen, which may be any but these, and tells it.
+func (r *reader) needOther(these string) rune {
+	c := r.see()
+	if c == end || r.sees(these) {
 		r.refuse()
-		return
+	} else {
+		r.next++
 	}
-	r.next++
+	return c
 }

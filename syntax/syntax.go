@@ -1,11 +1,12 @@
-// Package syntax reads patterns: whether a string is one, how great it is, and what its groups are called.
+// Package syntax reads patterns: whether a string is one, what it is made of, how great it is, and what its groups are called.
 package syntax
 
 import "trawl/api"
 
 // Pattern is what was read of a string that is a pattern.
 type Pattern struct {
-	groups int
+	Root   Node
+	Groups int
 	names  map[string]int // of the groups that have a name: their numbers
 }
 
@@ -15,7 +16,8 @@ func Read(text string) (Pattern, api.Errno, int) {
 		return Pattern{}, api.ErrLong, 0
 	}
 	r := newReader(text)
-	if r.whole().size() > api.MaxSize {
+	root := r.whole()
+	if root.size() > api.MaxSize {
 		r.note(api.ErrBig, 0)
 	}
 	// The numbers of the errors go up in the order in which they are to be told.
@@ -24,12 +26,12 @@ func Read(text string) (Pattern, api.Errno, int) {
 			return Pattern{}, e, place
 		}
 	}
-	return Pattern{groups: r.groups, names: r.names}, api.OK, 0
+	return Pattern{Root: root, Groups: r.groups, names: r.names}, api.OK, 0
 }
 
 // Names tells of each group its name, by number; of one without a name the empty string.
 func (p Pattern) Names() []string {
-	list := make([]string, p.groups)
+	list := make([]string, p.Groups)
 	for name, number := range p.names {
 		list[number-1] = name
 	}

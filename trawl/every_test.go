@@ -63,17 +63,13 @@ func TestEveryTwoBytes(t *testing.T) {
 func TestLongTexts(t *testing.T) {
 	pieces := []string{"a", "b|", "é", "(", "(?:", "(?i:", "(a)", ")", ")", ")*", "){20}", "){0}", "){2,}", "){1,20}?", "(x{20}){20}", "[a-z]", `[^\d\]-\]]`, `\b`, ".+", "x{19,20}", "^", "$"}
 	rare := []string{"{3,2}", "x{3,2}", "x{21}", "[b-a]", "(?<a>", "(?<a>x)", "(?<b>", "(?<cdefghij>y)", "\xc3", `\q`, "**", "(?<cdefghijk>)", "{00}"}
-	state := uint32(1)
-	next := func(below int) int {
-		state = state*1664525 + 1013904223
-		return int(state>>16) % below
-	}
+	c := chooser(1)
 	for range 600 {
-		text, length, open := "", next(310), 0
+		text, length, open := "", c.below(310), 0
 		for len(text) < length {
-			piece := pieces[next(len(pieces))]
-			if next(60) == 0 {
-				piece = rare[next(len(rare))]
+			piece := c.of(pieces)
+			if c.below(60) == 0 {
+				piece = c.of(rare)
 			}
 			if piece[0] == ')' && open == 0 {
 				continue
@@ -83,7 +79,7 @@ func TestLongTexts(t *testing.T) {
 				open = depth
 			}
 		}
-		for ; open > 0 && next(20) > 0; open-- {
+		for ; open > 0 && c.below(20) > 0; open-- {
 			text += ")"
 		}
 		compare(t, text)

@@ -3,7 +3,9 @@ package trawl
 
 import (
 	"trawl/api"
+	"trawl/machine"
 	"trawl/syntax"
+	"trawl/whole"
 )
 
 // Stream looks for a pattern in bytes that come part by part.
@@ -25,7 +27,13 @@ func Names(pattern string) ([]string, api.Errno) {
 }
 
 // Find tells the events of a whole text (P5).
-func Find(pattern string, text string) ([]api.Event, api.Errno) { return nil, api.OK }
+func Find(pattern string, text string) ([]api.Event, api.Errno) {
+	p, e, _ := syntax.Read(pattern)
+	if e != api.OK {
+		return nil, e
+	}
+	return whole.Events(machine.New(p), text), api.OK
+}
 
 // Open makes a Stream (P6).
 func Open(pattern string, o api.Options) (*Stream, api.Errno) { return nil, api.OK }
