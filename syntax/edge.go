@@ -24,6 +24,17 @@ func (e Edge) Holds(ahead, behind rune) bool {
 	return (isWord(ahead) != isWord(behind)) == (e == WordEdge)
 }
 
+// Sample tells a rune that every Edge takes for c: None, a word's rune or another. There are just three, so places can be held against each other by it.
+func Sample(c rune) rune {
+	switch {
+	case c == None:
+		return None
+	case isWord(c):
+		return 'w'
+	}
+	return ' '
+}
+
 func isWord(c rune) bool {
 	return c == '_' || '0' <= c && c <= '9' || 'A' <= c && c <= 'Z' || 'a' <= c && c <= 'z'
 }

@@ -20,6 +20,20 @@ func (s Set) Has(c rune) bool {
 	return at < len(s) && s[at].from <= c
 }
 
+// Cuts tells the runes at which the set begins, or ceases, to have runes.
+func (s Set) Cuts() []rune {
+	var cuts []rune
+	for _, one := range s {
+		cuts = append(cuts, one.from, one.to+1)
+	}
+	return cuts
+}
+
+// Words is the set of the runes of words.
+func Words() Set {
+	return newSet(setOf('w'))
+}
+
 func newSet(spans []span) Set {
 	sorted := slices.SortedFunc(slices.Values(spans), func(a, b span) int { return cmp.Compare(a.from, b.from) })
 	var set Set

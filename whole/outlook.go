@@ -1,37 +1,36 @@
 package whole
 
 import (
+	"math"
 	"slices"
 	"unicode/utf8"
 
 	"trawl/machine"
-	"trawl/syntax"
 )
 
 // blockLength is of how many bytes of a text, or a few more, the rows are there at one time.
 const blockLength = 4096
 
-// outlook tells from which states, at which boundaries of a text, a try of the whole pattern comes off. That hangs on what is behind the boundary alone, so it is worked out from the text's end to its beginning: once for the whole text, of which a row for each block is kept, and then again for each block when it is asked for. So the time is that of states times text, whatever fails, and the room is not.
+// outlook tells from which states, at which boundaries of a text, a try of the whole pattern comes off, or, if the text is open, comes to its end. That hangs on what is behind the boundary alone, so it is worked out from the text's end to its beginning: once for the whole text, of which a row for each block is kept, and then again for each block when it is asked for. So the time is that of states times text, whatever fails, and the room is not.
 type outlook struct {
 	machine machine.Machine
-	text    string
+	text    Text
 	begins  []int // of the blocks, and the text's end
 	firsts  []row // of the boundaries that begins tells
 	block   int   // the one whose rows are there
 	rows    []row // of its boundaries, by their distance from its beginning
 }
 
-func newOutlook(m machine.Machine, text string) *outlook {
-	o := &outlook{machine: m, text: text, begins: blocks(text)}
-	words := len(m.States)/64 + 1
-	for range min(len(text), blockLength+utf8.UTFMax) + 1 {
-		o.rows = append(o.rows, make(row, words))
+func newOutlook(m machine.Machine, text Text) *outlook {
+	o := &outlook{machine: m, text: text, begins: blocks(text.Bytes)}
+	o.rows = newRows(min(len(text.Bytes), blockLength+utf8.UTFMax)+1, len(m.States))
+	o.firsts = newRows(len(o.begins), len(m.States))
+	last, nothing := len(o.begins)-1, newRows(1, len(m.States))[0]
+	if text.Open {
+		o.firsts[last].putAll()
+	} else {
+		o.reckon(o.firsts[last], nothing, len(text.Bytes))
 	}
-	for range o.begins {
-		o.firsts = append(o.firsts, make(row, words))
-	}
-	last := len(o.begins) - 1
-	o.reckon(o.firsts[last], nil, len(text))
 	for block := last - 1; block >= 0; block-- {
 		o.load(block)
 		copy(o.firsts[block], o.rows[0])
@@ -56,7 +55,7 @@ func (o *outlook) load(block int) {
 	from, to := o.begins[block], o.begins[block+1]
 	copy(o.rows[to-from], o.firsts[block+1])
 	var places []int
-	for place := range o.text[from:to] {
+	for place := range o.text.Bytes[from:to] {
 		places = append(places, place)
 	}
 	behind := to - from
@@ -69,7 +68,7 @@ func (o *outlook) load(block int) {
 // reckon works out the row of a place from the row of the boundary behind it.
 func (o *outlook) reckon(now, next row, place int) {
 	clear(now)
-	ahead, behind := around(o.text, place)
+	ahead, behind := o.text.around(place)
 	for number := range o.machine.States {
 		var comesOff bool
 		switch s := &o.machine.States[number]; s.Kind {
@@ -103,13 +102,13 @@ func (o *outlook) comesOff(state, place int) bool {
 }
 
 // around tells the runes ahead of a boundary and behind it.
-func around(text string, place int) (ahead, behind rune) {
-	ahead, behind = syntax.None, syntax.None
+func (t Text) around(place int) (ahead, behind rune) {
+	ahead, behind = t.Ahead, t.Behind
 	if place > 0 {
-		ahead, _ = utf8.DecodeLastRuneInString(text[:place])
+		ahead, _ = utf8.DecodeLastRuneInString(t.Bytes[:place])
 	}
-	if place < len(text) {
-		behind, _ = utf8.DecodeRuneInString(text[place:])
+	if place < len(t.Bytes) {
+		behind, _ = utf8.DecodeRuneInString(t.Bytes[place:])
 	}
 	return ahead, behind
 }
@@ -117,10 +116,26 @@ func around(text string, place int) (ahead, behind rune) {
 // row holds, of one boundary, the states from which a try comes off.
 type row []uint64
 
+func newRows(number, states int) []row {
+	length := states/64 + 1
+	words := make(row, number*length)
+	var rows []row
+	for one := range slices.Chunk(words, length) {
+		rows = append(rows, one)
+	}
+	return rows
+}
+
 func (r row) has(state int) bool {
 	return r[state/64]>>(state%64)&1 != 0
 }
 
 func (r row) put(state int) {
 	r[state/64] |= 1 << (state % 64)
+}
+
+func (r row) putAll() {
+	for i := range r {
+		r[i] = math.MaxUint64
+	}
 }
