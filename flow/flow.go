@@ -33,6 +33,8 @@ type Flow struct {
 	again   bool // whether its last step was over a rune that it had gone over ahead of that
 	course  whole.Course
 	match   match
+	window  int  // how many bytes may be kept; 0: any number
+	over    bool // whether more than that would have been kept
 }
 
 // match is the first in order of the tries that were done since the engine began, if any was.
@@ -41,9 +43,9 @@ type match struct {
 	done       bool
 }
 
-// New makes a flow of which nothing has come. Options.Window is not looked at.
+// New makes a flow of which nothing has come.
 func New(m machine.Machine, o api.Options) *Flow {
-	f := &Flow{machine: m, ahead: syntax.None, course: whole.NewCourse()}
+	f := &Flow{machine: m, ahead: syntax.None, course: whole.NewCourse(), window: o.Window}
 	if o.Engine == 1 {
 		f.engine = threads.NewEngine(m)
 	} else {
@@ -52,8 +54,22 @@ func New(m machine.Machine, o api.Options) *Flow {
 	return f
 }
 
-// Feed takes bytes, and tells the events that are certain by now. Bytes at the end that may be the beginning of a rune wait for the rest of it.
-func (f *Flow) Feed(part []byte) []api.Event {
+// Feed takes bytes, and tells the events that are certain by now. If more bytes would have to be kept behind it than may be, it tells none, and nothing more is taken.
+func (f *Flow) Feed(part []byte) ([]api.Event, api.Errno) {
+	if f.over {
+		return nil, api.ErrWindow
+	}
+	events := f.take(part)
+	if f.window != 0 && len(f.kept) > f.window {
+		// The engine stays: the states that it keeps are told up to Close.
+		f.over, f.kept = true, nil
+		return nil, api.ErrWindow
+	}
+	return events, api.OK
+}
+
+// take goes over what comes, as far as runes are whole: bytes at the end that may be the beginning of one wait for the rest of it.
+func (f *Flow) take(part []byte) []api.Event {
 	var events []api.Event
 	f.kept = append(f.kept, part...)
 	for utf8.FullRune(f.keptFrom(f.place)) {
@@ -68,8 +84,11 @@ func (f *Flow) Feed(part []byte) []api.Event {
 }
 
 // Close tells the rest of the events: nothing more comes.
-func (f *Flow) Close() []api.Event {
-	return f.look(f.front(), f.begin+len(f.kept), false)
+func (f *Flow) Close() ([]api.Event, api.Errno) {
+	if f.over {
+		return nil, api.ErrWindow
+	}
+	return f.look(f.front(), f.begin+len(f.kept), false), api.OK
 }
 
 // Kept tells how many bytes are kept.

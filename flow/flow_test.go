@@ -34,9 +34,9 @@ func TestStepsAreFew(t *testing.T) {
 			f.engine = c
 			events := 0
 			for range length {
-				events += len(f.Feed([]byte("x")))
+				events += len(f.take([]byte("x")))
 			}
-			events += len(f.Feed([]byte("\n")))
+			events += len(f.take([]byte("\n")))
 			if events < length/2 || c.steps > 4*length {
 				t.Errorf("%q, engine %d: %d steps for %d bytes and %d events", pattern, kind, c.steps, length, events)
 			}

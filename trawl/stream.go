@@ -33,12 +33,12 @@ func mayBe(o api.Options) bool {
 
 // Feed takes bytes, and tells the events that are certain by now (P7, P8, P10).
 func (s *Stream) Feed(part []byte) ([]api.Event, api.Errno) {
-	return guarded(s, func(f *flow.Flow) []api.Event { return f.Feed(part) })
+	return guarded(s, func(f *flow.Flow) ([]api.Event, api.Errno) { return f.Feed(part) })
 }
 
-// Close tells the rest of the events (P7).
+// Close tells the rest of the events (P7, P10).
 func (s *Stream) Close() ([]api.Event, api.Errno) {
-	return guarded(s, func(f *flow.Flow) []api.Event {
+	return guarded(s, func(f *flow.Flow) ([]api.Event, api.Errno) {
 		s.flow = nil
 		return f.Close()
 	})
@@ -46,18 +46,18 @@ func (s *Stream) Close() ([]api.Event, api.Errno) {
 
 // Kept tells how many bytes are kept (P9).
 func (s *Stream) Kept() int {
-	n, _ := guarded(s, (*flow.Flow).Kept)
+	n, _ := guarded(s, func(f *flow.Flow) (int, api.Errno) { return f.Kept(), api.OK })
 	return n
 }
 
 // States tells how many states are kept (P9).
 func (s *Stream) States() int {
-	n, _ := guarded(s, (*flow.Flow).States)
+	n, _ := guarded(s, func(f *flow.Flow) (int, api.Errno) { return f.States(), api.OK })
 	return n
 }
 
 // guarded makes a call on what an open Stream has. A panic inside closes the Stream: nobody knows in what state it was left.
-func guarded[T any](s *Stream, call func(*flow.Flow) T) (answer T, e api.Errno) {
+func guarded[T any](s *Stream, call func(*flow.Flow) (T, api.Errno)) (answer T, e api.Errno) {
 	if s == nil || s.self != s || s.flow == nil {
 		return answer, api.ErrClosed
 	}
@@ -68,5 +68,5 @@ func guarded[T any](s *Stream, call func(*flow.Flow) T) (answer T, e api.Errno) 
 			answer, e = nothing, api.ErrClosed
 		}
 	}()
-	return call(s.flow), api.OK
+	return call(s.flow)
 }

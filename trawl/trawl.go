@@ -31,8 +31,3 @@ func Find(pattern string, text string) ([]api.Event, api.Errno) {
 	}
 	return whole.All(machine.New(p), text), api.OK
 }
-
-// Run looks for a pattern in what a source gives (P11).
-func Run(pattern string, o api.Options, pieces []api.Piece, most int) (api.Tale, api.Errno) {
-	return api.Tale{}, api.OK
-}
